@@ -1,0 +1,1 @@
+"""Rules of words, decided, counted, found, turned and learned, with papers."""
