@@ -113,7 +113,7 @@ def turned(letters, machine):
     def is_end(states):
         return 0 in states
 
-    first = tuple([state for state, end in enumerate(ends) if end])
+    first = tuple([place for place, end in enumerate(ends) if end])
     meeting = meet(letters, first, step, most=MOST_STATES)
     if meeting is None:
         raise TooGreat()

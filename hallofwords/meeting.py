@@ -51,7 +51,7 @@ def meet(letters, first, step, *, most=None):
 
 def side_by_side(machines):
     """Return the step from a tuple of states, one of each machine, by which each of them goes on."""
-    tables = [table for table, _ in machines]
+    tables = [machine[0] for machine in machines]
 
     def step(states, at):
         return tuple([table[state][at] for table, state in zip(tables, states)])

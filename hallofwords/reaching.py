@@ -26,9 +26,9 @@ def pieces_of(rule, word):
     if kind == "both":
         return in_all(inner)
     if kind == "not":
-        # All places from a begin on, but for those that are told.
+        # From each begin on all places but those at which a piece of the rule ends.
         whole = (2 << len(word)) - 1
-        return [(whole >> at << at) & ~ends for at, ends in enumerate(inner[0])]
+        return [(whole >> at << at) ^ ends for at, ends in enumerate(inner[0])]
     return in_times(inner[0], rule[2], rule[3])
 
 

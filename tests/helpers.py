@@ -32,6 +32,20 @@ def counter(signs):
     return ([[min(k + 1, signs + 1)] for k in range(signs + 2)], [k == signs for k in range(signs + 2)])
 
 
+def tail_and_loop(tail, loop, good):
+    """Over the letters abc: by a along a tail and around a loop; the sign good is taken at two places, and ends.
+
+    The places are the last one of the tail and the first one of the loop.
+    """
+    last = tail + loop
+    table = []
+    for state in range(last):
+        by_good = last if state in (tail - 1, tail) else last + 1
+        table.append([state + 1 if state < last - 1 else tail]
+                     + [by_good if sign == good else last + 1 for sign in "bc"])
+    return table + [[last + 1] * 3] * 2, [False] * last + [True, False]
+
+
 def some_machine(rng, letters, most):
     many = rng.randint(1, most)
     return ([[rng.randrange(many) for _ in letters] for _ in range(many)], [rng.random() < 0.4 for _ in range(many)])
@@ -136,6 +150,17 @@ def ways_of_parts(parts, word):
 
 def order_of_pairs(rule, way):
     return [(-len(part), all_ways(rule, part).index(inner)) for part, inner in way]
+
+
+def met_pairs(letters, first, second, pair=(0, 0)):
+    """The pairs of states that are met from a pair, ascending."""
+    pairs = [pair]
+    for p, q in pairs:
+        for at in range(len(letters)):
+            reached = (first[0][p][at], second[0][q][at])
+            if reached not in pairs:
+                pairs.append(reached)
+    return sorted(pairs)
 
 
 def lists_in(value):

@@ -2,7 +2,17 @@ import itertools
 import random
 import unittest
 
-from helpers import all_words, check_new, counter, cycle, some_machine, some_machines, taken, taken_words
+from helpers import (
+    all_words,
+    check_new,
+    counter,
+    cycle,
+    some_machine,
+    some_machines,
+    tail_and_loop,
+    taken,
+    taken_words,
+)
 
 from hallofwords.errors import HallError, TooGreat, TooMany
 from hallofwords.folds import (
@@ -58,20 +68,6 @@ TURNED_60 = ([[0, 1], [2, 0], [3, 2], [4, 1], [5, 3], [6, 0], [5, 6]], [k in (0,
 TURNED_61 = ([[1, 2], [3, 2], [3, 4], [5, 0], [1, 6], [3, 5], [2, 3]], [k in (0, 2, 5, 6) for k in range(7)])
 CLOSINGS_60 = ([[1, 2], [3, 1], [4, 0], [5, 0], [2, 5], [4, 6], [7, 3], [1, 5]], [k in (0, 5) for k in range(8)])
 CLOSINGS_61 = ([[1, 1], [1, 2], [3, 4], [5, 1], [4, 6], [0, 7], [1, 0], [4, 5]], [k in (0, 4) for k in range(8)])
-
-
-def tail_and_loop(tail, loop, good):
-    """Over the letters abc: by a along a tail and around a loop; the sign good is taken at two places, and ends.
-
-    The places are the last one of the tail and the first one of the loop.
-    """
-    last = tail + loop
-    table = []
-    for state in range(last):
-        by_good = last if state in (tail - 1, tail) else last + 1
-        table.append([state + 1 if state < last - 1 else tail]
-                     + [by_good if sign == good else last + 1 for sign in "bc"])
-    return table + [[last + 1] * 3] * 2, [False] * last + [True, False]
 
 
 def one_of(*lengths):
