@@ -3,7 +3,7 @@ import unittest
 
 from helpers import check_new, counter, cycle, some_machines
 
-from hallofwords.back import rule_of
+from hallofwords.back import in_either, in_row, repeats, rule_of
 from hallofwords.errors import BadSize, HallError, TooDeep
 from hallofwords.machines import least
 from hallofwords.making import machine_of
@@ -206,6 +206,52 @@ class RuleOfTest(unittest.TestCase):
     def test_answers_are_new(self):
         for machine in (([[1, 0], [1, 2], [1, 0]], [False, False, True]), ([[0, 0]], [True])):
             check_new(self, rule_of, "ab", machine)
+
+
+class PuttingTogetherTest(unittest.TestCase):
+    """What point 20 says of rows, eithers and repeats, also where no machine leads to it."""
+
+    def test_rows(self):
+        for rules, answer in (
+            ([], EMPTY),
+            ([EMPTY, EMPTY], EMPTY),
+            ([A, EMPTY], A),
+            ([A, NONE, B], NONE),
+            ([A, B, A], ("row", [A, B, A])),
+            ([("row", [A, ("row", [B, A])]), B], ("row", [A, B, A, B])),
+            ([("either", [("row", [A, B]), A]), B], ("row", [("either", [("row", [A, B]), A]), B])),
+            ([A] * 6, ("row", [A] * 6)),
+            ([A] * 5 + [B] * 2, ("row", [A] * 5 + [("row", [B, B])])),
+            ([("row", [A] * 5 + [("row", [A] * 6)]), B], ("row", [A] * 5 + [("row", [A] * 5 + [("row", [A, B])])])),
+        ):
+            self.assertEqual(in_row(rules), answer)
+
+    def test_eithers(self):
+        row, other = ("row", [A, B]), ("row", [B, A])
+        six = [("row", [A] * k) for k in range(2, 8)]
+        for rules, answer in (
+            ([], NONE),
+            ([NONE, NONE], NONE),
+            ([NONE, EMPTY], EMPTY),
+            ([B, A], ("one", "ab")),
+            ([row, B, row, EMPTY, A, EMPTY], ("either", [row, ("one", "ab"), EMPTY])),
+            ([("either", [row, ("either", [B, other])]), row, A], ("either", [row, ("one", "ab"), other])),
+            ([("row", [("either", [A, row]), B]), A], ("either", [("row", [("either", [A, row]), B]), A])),
+            (six, ("either", six)),
+            (six + [A, EMPTY], ("either", six[:5] + [("either", [six[5], A, EMPTY])])),
+            ([("either", six[:5] + [("either", [six[5], A])]), B],
+             ("either", six[:5] + [("either", [six[5], ("one", "ab")])])),
+        ):
+            self.assertEqual(in_either("ab", rules), answer)
+        self.assertEqual(in_either("ba", [A, row, B]), ("either", [("one", "ba"), row]))
+
+    def test_repeats(self):
+        turns = ("times", A, 0, None)
+        for rule, answer in ((NONE, EMPTY), (EMPTY, EMPTY), (A, turns), (turns, turns),
+                             (("times", A, 1, None), ("times", ("times", A, 1, None), 0, None)),
+                             (("times", A, 0, 1), ("times", ("times", A, 0, 1), 0, None)),
+                             (("row", [A, turns]), ("times", ("row", [A, turns]), 0, None))):
+            self.assertEqual(repeats(rule), answer)
 
 
 if __name__ == "__main__":

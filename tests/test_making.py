@@ -217,6 +217,14 @@ class MachineOfTest(unittest.TestCase):
         self.raises(TooGreat, ("times", signs(30), 1, None))
         self.assertEqual(len(machine_of("a", ("times", signs(29), 1, None))[0]), 30)
 
+    def test_maybe_is_made_only_if_it_is_needed(self):
+        # With the word without signs this machine of 60 states has 61.
+        rule = ("both", [("row", [multiples(4), A]), ("row", [multiples(15), A])])
+        self.raises(TooGreat, ("either", [rule, ("empty",)]))
+        self.raises(TooGreat, ("times", rule, 0, 1))
+        self.assertEqual(machine_of("a", ("times", rule, 1, 1)), cycle(60, 1))
+        self.assertEqual(machine_of("a", ("times", rule, 0, 0)), ([[1], [1]], [True, False]))
+
     def test_60_and_61_states(self):
         self.assertEqual(len(machine_of("a", signs(58))[0]), 60)
         self.raises(TooGreat, signs(59))
