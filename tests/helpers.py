@@ -81,6 +81,53 @@ def some_rules(seed, number, letters=("a", "ab", "ba", "abc"), depth=3):
         yield chosen, some_rule(rng, chosen, rng.randint(0, depth))
 
 
+def some_plain_rule(rng, letters, depth):
+    """A rule without both and not."""
+    kinds = "none empty one one one one row row either either times times".split() if depth else ["one", "one", "empty"]
+    kind = rng.choice(kinds)
+    if kind in ("row", "either"):
+        return (kind, [some_plain_rule(rng, letters, depth - 1) for _ in range(rng.choice([1, 2, 2, 3]))])
+    if kind == "times":
+        low = rng.choice([0, 0, 1, 1, 2, 3])
+        high = rng.choice([None, None, low, low + 1, low + 2])
+        return ("times", some_plain_rule(rng, letters, depth - 1), low, high)
+    if kind == "one":
+        signs = rng.sample(letters, rng.randint(1, len(letters)))
+        return ("one", "".join(sign for sign in letters if sign in signs))
+    return (kind,)
+
+
+def some_plain_rules(seed, number, letters=("a", "ab", "ba", "abc"), depth=3):
+    rng = random.Random(seed)
+    for _ in range(number):
+        chosen = rng.choice(letters)
+        yield chosen, some_plain_rule(rng, chosen, rng.randint(0, depth))
+
+
+def some_choices(seed, number, letters="ab"):
+    """Rules that choose between rows which often begin alike."""
+    rng = random.Random(seed)
+    for _ in range(number):
+        rows = []
+        for _ in range(rng.randint(2, 4)):
+            parts = [("one", rng.choice([letters[0], letters[0], letters[1], letters])) for _ in range(rng.randint(1, 5))]
+            at = rng.randrange(len(parts))
+            if rng.random() < 0.5:
+                parts[at] = ("times", parts[at], rng.choice([0, 1]), rng.choice([None, 2]))
+            rows.append(("row", parts))
+        rule = ("either", rows)
+        yield letters, rule if rng.random() < 0.6 else ("times", rule, 0, None)
+
+
+def in_row_of(sign, many):
+    """The rule of the one word with so many times this sign, from 1 to 48."""
+    one = ("one", sign)
+    parts = [("times", one, 8, 8)] * (many // 8)
+    if many % 8:
+        parts.append(("times", one, many % 8, many % 8))
+    return ("row", parts)
+
+
 def belongs(rule, word):
     """Whether the word belongs to the rule, straight from point 2."""
     kind = rule[0]

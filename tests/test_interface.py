@@ -84,7 +84,53 @@ INTERFACE = {
         way_at(letters, rule, word, place)
         place_of_way(letters, rule, word, way)
     """,
+    "positions": """
+        positions_of(letters, rule)
+        useful_positions(letters, rule)
+        count_roads(letters, rule, word)
+        ways_of_length(letters, rule, length)
+        double_word(letters, rule)
+        two_ways(letters, rule)
+        double_paper(letters, rule)
+        is_double_paper(letters, rule, paper)
+    """,
+    "numbers": """
+        count(letters, machine, length)
+        upto(letters, machine, length)
+        count_ahead(letters, machine, word)
+        place_of(letters, machine, word)
+        kth(letters, machine, place)
+        next_word(letters, machine, word)
+    """,
+    "recurrences": """
+        recurrence(letters, machine)
+        square(letters, machine)
+        is_recurrence(letters, machine, numbers, length)
+        count_rest(letters, machine, length, divisor)
+        parting_length(letters, first, second)
+    """,
+    "growth": """
+        growth(letters, machine)
+        growth_paper(letters, machine)
+        is_growth_paper(letters, machine, told, paper)
+    """,
+    "finding": """
+        all_places(letters, machine, text)
+        count_places(letters, machine, text)
+        greatest(letters, machine, text)
+        replaced(letters, machine, text, by)
+    """,
 }
+# Each class with the arguments of its making, and those of the methods that stand in its own body.
+CLASSES = {
+    ("finder", "Finder"): """
+        __init__(self, letters, machine)
+        begun(self)
+        feed(self, piece)
+        waiting(self)
+    """,
+}
+PROPERTIES = {("finder", "Finder"): ["fed"]}
 
 
 class InterfaceTest(unittest.TestCase):
@@ -97,6 +143,18 @@ class InterfaceTest(unittest.TestCase):
                 function, arguments = line.strip().split("(", 1)
                 self.assertIn(function, defined, name)
                 self.assertEqual(str(inspect.signature(getattr(module, function))), "(" + arguments)
+
+    def test_classes(self):
+        for (name, called), listed in CLASSES.items():
+            module = importlib.import_module("hallofwords." + name)
+            tree = ast.parse(inspect.getsource(module))
+            self.assertIn(called, {node.name for node in tree.body if isinstance(node, ast.ClassDef)})
+            own = vars(getattr(module, called))
+            for line in listed.strip().splitlines():
+                method, arguments = line.strip().split("(", 1)
+                self.assertEqual(str(inspect.signature(own[method])), "(" + arguments)
+            for told in PROPERTIES.get((name, called), []):
+                self.assertIsInstance(own[told], property)
 
 
 if __name__ == "__main__":

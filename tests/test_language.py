@@ -11,7 +11,7 @@ PACKAGE = os.path.join(os.path.dirname(os.path.dirname(os.path.abspath(__file__)
 
 ALLOWED_BUILTINS = set(
     "len range enumerate zip min max sum abs sorted reversed int str bool list tuple dict set isinstance ord repr"
-    " any all divmod map iter next Exception ValueError TypeError KeyError IndexError".split()
+    " any all divmod map iter next property Exception ValueError TypeError KeyError IndexError".split()
 )
 ALLOWED_METHODS = set(
     "append clear copy count endswith extend find get index insert isalnum isalpha isdigit islower isspace isupper"
@@ -89,7 +89,12 @@ class LanguageTest(unittest.TestCase):
 
     def test_no_annotations_and_no_decorators(self):
         for where, node in self.nodes(ast.FunctionDef, ast.ClassDef, ast.arg):
-            self.assertFalse(getattr(node, "decorator_list", []), where)
+            decorators = [ast.unparse(decorator) for decorator in getattr(node, "decorator_list", [])]
+            if decorators == ["property"]:
+                self.assertEqual([arg.arg for arg in node.args.args], ["self"], where)
+                self.assertIsInstance(node.body[-1], ast.Return, where)
+            else:
+                self.assertEqual(decorators, [], where)
             self.assertIsNone(getattr(node, "returns", None), where)
             self.assertIsNone(getattr(node, "annotation", None), where)
 
