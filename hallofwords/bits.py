@@ -3,11 +3,12 @@
 
 def bits_of(mask):
     """Return the list of the places of the bits, ascending."""
+    digits = f"{mask:b}"[::-1]
     found = []
-    while mask:
-        lowest = mask & -mask
-        found.append(lowest.bit_length() - 1)
-        mask = mask ^ lowest
+    place = digits.find("1")
+    while place >= 0:
+        found.append(place)
+        place = digits.find("1", place + 1)
     return found
 
 

@@ -114,6 +114,47 @@ INTERFACE = {
         growth_paper(letters, machine)
         is_growth_paper(letters, machine, told, paper)
     """,
+    "near": """
+        check_costs(costs)
+        words_of(letters, moves)
+        cost_of(moves, *, costs=(1, 1, 1))
+        distance(letters, machine, word, *, costs=(1, 1, 1))
+        moves_of(letters, machine, word, *, costs=(1, 1, 1))
+        numbers_of(letters, machine, word, *, costs=(1, 1, 1))
+        nearest(letters, machine, word, *, most, costs=(1, 1, 1))
+        is_numbers(letters, machine, word, numbers, *, costs=(1, 1, 1))
+        shows_distance(letters, machine, word, cost, moves, numbers, *, costs=(1, 1, 1))
+        around(letters, machine, many)
+    """,
+    "apart": """
+        between(letters, first, second, *, costs=(1, 1, 1))
+        pair_numbers(letters, first, second, *, costs=(1, 1, 1))
+        is_pair_numbers(letters, first, second, numbers, *, costs=(1, 1, 1))
+        shows_between(letters, first, second, cost, moves, numbers, *, costs=(1, 1, 1))
+        apart(letters, machine, *, costs=(1, 1, 1))
+    """,
+    "turners": """
+        check_turner(letters, turner)
+        road_count(letters, turner, word)
+        outs(letters, turner, word, *, most=50)
+        has_answer(letters, turner, word, answer)
+        domain(letters, turner, *, into=None)
+        images(letters, turner, *, of=None)
+        same_of(letters, machine)
+        one_move(letters)
+        then(letters, first, second)
+    """,
+    "answers": """
+        one_answer(letters, turner)
+        is_one_paper(letters, turner, rests, idle)
+        is_two_answers(letters, turner, word, one, other)
+    """,
+    "leads": """
+        first_astray(letters, first, turner, second)
+        is_astray(letters, first, turner, second, word, answer)
+        lead_paper(letters, first, turner, second)
+        is_lead_paper(letters, first, turner, second, triples)
+    """,
     "finding": """
         all_places(letters, machine, text)
         count_places(letters, machine, text)
@@ -128,6 +169,13 @@ CLASSES = {
         begun(self)
         feed(self, piece)
         waiting(self)
+    """,
+    ("scribes", "Scribe"): """
+        __init__(self, letters, turner)
+        feed(self, piece)
+        told(self)
+        heard(self)
+        finish(self)
     """,
 }
 PROPERTIES = {("finder", "Finder"): ["fed"]}
