@@ -106,6 +106,7 @@ def answer_begins(turner):
         before = found
         found = {}
         for state, begin in before.items():
-            behind = [word + before[reached] for listed in moves[state] for word, reached in listed if reached in before]
+            leading = [move for listed in moves[state] for move in listed]
+            behind = [word + before[reached] for word, reached in leading if reached in before]
             found[state] = begin_of_all([begin] + ends[state] + behind)
     return found

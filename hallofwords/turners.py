@@ -176,7 +176,8 @@ def same_of(letters, machine):
     table, ends = least(letters, machine)
     if len(table) > MOST_TURNER_STATES:
         raise BadSize(len(table))
-    return [[[(sign, state)] for sign, state in zip(letters, row)] for row in table], [[""] if end else [] for end in ends]
+    moves = [[[(sign, state)] for sign, state in zip(letters, row)] for row in table]
+    return moves, [[""] if end else [] for end in ends]
 
 
 def one_move(letters):
