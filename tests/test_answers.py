@@ -245,6 +245,16 @@ class PaperTest(unittest.TestCase):
             if idle:
                 self.assertIs(is_one_paper(letters, turner, rests, idle + idle[-1:]), False)
 
+    def test_numbers_that_are_no_states(self):
+        """The last state has no end words and leads nowhere, so that nothing else is wrong with pairs in which it stands."""
+        turner = ([[[("a", 0)]], [[]]], [[""], []])
+        for pair in ((-1, 0), (0, -1), (2, 0), (0, 2), (-1, -1), (1, -1), (2, 1)):
+            self.assertIs(is_one_paper("a", turner, [(0, 0, "", "")], [pair]), False)
+            self.assertIs(is_one_paper("a", turner, sorted([(0, 0, "", ""), pair + ("", "")]), []), False)
+        for pair in ((1, 0), (0, 1), (1, 1)):
+            self.assertIs(is_one_paper("a", turner, [(0, 0, "", "")], [pair]), True)
+            self.assertIs(is_one_paper("a", turner, [(0, 0, "", ""), pair + ("", "")], []), True)
+
     def test_no_paper_beside_two_answers(self):
         rng = random.Random(625)
         for letters, turner in some_turners(626, 60, states=2, moves=(1, 2), ends=(1, 2), most=1):

@@ -174,6 +174,15 @@ class PaperTest(unittest.TestCase):
                 self.assertIs(is_lead_paper(letters, first, turner, second, more), right)
         self.assertGreater(min(seen.values()), 50)
 
+    def test_numbers_that_are_no_states(self):
+        """The last states lead nowhere else, so that nothing else is wrong with triples in which they stand."""
+        first, second = ([[0], [1]], [False, False]), ([[0], [1]], [False, False])
+        turner = ([[[("a", 0)]], [[]]], [[], []])
+        for triple in ((-1, 1, 0), (1, -1, 0), (0, 1, -1), (2, 1, 0), (0, 2, 0), (0, 1, 2)):
+            self.assertIs(is_lead_paper("a", first, turner, second, sorted([(0, 0, 0), triple])), False)
+        for triple in ((1, 1, 0), (0, 1, 0), (1, 1, 1)):
+            self.assertIs(is_lead_paper("a", first, turner, second, [(0, 0, 0), triple]), True)
+
     def test_pairs_beside_the_turner_of_all_words(self):
         """The turner that changes nothing leads one machine into another one if it is within it."""
         same = same_of("ab", EVERY)

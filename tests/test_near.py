@@ -364,6 +364,16 @@ class AroundTest(unittest.TestCase):
         self.assertEqual(around("ab", NOTHING, 2), NOTHING)
         self.assertEqual(around("ab", EVERY, 2), EVERY)
 
+    def test_machines_of_few_words(self):
+        rng = random.Random(511)
+        for letters, most, many in (("ab", 6, 1), ("ab", 6, 2), ("abc", 4, 1), ("abc", 4, 2)):
+            for _ in range(25):
+                words = rng.sample(all_words(letters, 4), rng.randint(1, 2 if many == 1 else 1))
+                near = [word for word in all_words(letters, most)
+                        if min(slow.word_cost(word, other, (1, 1, 1)) for other in words) <= many]
+                told = around(letters, word_machine(letters, words), many)
+                self.assertEqual([word for word in all_words(letters, most) if taken(letters, told, word)], near)
+
     def test_errors(self):
         rng = random.Random(509)
         with self.assertRaises(TooMany):

@@ -396,6 +396,25 @@ class PaperTest(unittest.TestCase):
                     self.assertIs(is_double_paper(letters, rule, (e, begins, steps, ends, pairs)), False)
                 self.assertIs(is_double_paper(letters, rule, (e, begins, steps, ends, every)), False)
 
+    def test_numbers_greater_than_one(self):
+        """The numbers are those of the rule, and no pair is wrong, but one of them is 2."""
+        two = ("either", [EMPTY, EMPTY])
+        for rule, paper in (
+            (two, (2, [], [], [], [])),
+            (("row", [A, two]), (0, [1], [[0]], [2], [])),
+            (("row", [two, A]), (0, [2], [[0]], [1], [])),
+            (("row", [A, two, B]), (0, [1, 0], [[0, 2], [0, 0]], [0, 1], [])),
+            (("row", [two, A, B]), (0, [2, 0], [[0, 1], [0, 0]], [0, 1], [])),
+            (("either", [two, ("row", [A, B])]), (2, [1, 0], [[0, 1], [0, 0]], [0, 1], [])),
+        ):
+            signs, *numbers = positions_of("ab", rule)
+            self.assertEqual(numbers, list(paper[:4]))
+            every = [(p, q) for p in range(len(signs)) for q in range(p, len(signs))]
+            for pairs in ([], every, every[:1], every[1:]):
+                self.assertIs(is_double_paper("ab", rule, paper[:4] + (pairs,)), False)
+            self.assertIsNone(double_paper("ab", rule))
+            self.assertIsNotNone(double_word("ab", rule))
+
     def test_changed_numbers(self):
         for letters, rule, (e, begins, steps, ends, pairs) in self.papers(309, 80, least=1):
             for change in (1, -1):

@@ -207,8 +207,10 @@ class PartingLengthTest(unittest.TestCase):
         self.assertEqual(parting_length("a", one, other), 59)
         late = ([[k + 1] for k in range(59)] + [[59]], [False] * 59 + [True])
         self.assertEqual(parting_length("a", late, ([[0]], [False])), 59)
-        # The numbers are unlike for the first time at a length one less than the sum of the numbers of states.
-        self.assertEqual(parting_length("a", cycle(5, 4), ([[0]], [False])), 4)
+        # For the first time at the length that is 2 less than the numbers of states together.
+        one, other = ([[1], [0]], [False, True]), ([[2], [0], [1]], [False, False, True])
+        self.assertEqual(parting_length("a", one, other), 3)
+        self.assertEqual(parting_length("ab", ([[0, 0]], [False]), ([[2, 0], [1, 2], [1, 1]], [False, True, False])), 2)
         apart = joined("a", [cycle(6, 5), cycle(7, 6)])
         self.assertEqual(parting_length("a", apart, cycle(6, 5)), 6)
 

@@ -6,8 +6,10 @@ from helpers import all_words, check_new, counter, cycle, some_machine, some_mac
 from turning import answers, in_their_order, roads, some_turner, some_turners, some_word
 
 from hallofwords.errors import BadSize, BadTurner, TooGreat, TooMany
+from hallofwords.imaging import places_to_write
 from hallofwords.machines import least, words_upto
 from hallofwords.making import machine_of, word_machine
+from hallofwords.meeting import meet
 from hallofwords.near import around
 from hallofwords.turners import (
     check_turner,
@@ -306,6 +308,50 @@ class ImagesTest(unittest.TestCase):
             images("ab", (moves[:7] + [[[], []]], [[] for _ in range(7)] + [[""]]))
 
 
+class ThingsTest(unittest.TestCase):
+    """The things of point 76, which no answer but TooMany tells: as many as there are sets of places."""
+
+    def slow_things(self, letters, turner, of):
+        def closed(places):
+            places = list(places)
+            for rest, q, s in places:
+                found = []
+                if rest == "" and q is not None:
+                    for at in range(len(letters)):
+                        found += [(word, p, of[0][s][at]) for word, p in turner[0][q][at]]
+                    if of[1][s]:
+                        found += [(word, None, None) for word in turner[1][q]]
+                places += [place for place in dict.fromkeys(found) if place not in places]
+            return frozenset(places)
+
+        things = [closed([("", 0, 0)])]
+        for thing in things:
+            for sign in letters:
+                reached = closed({(rest[1:], q, s) for rest, q, s in thing if rest[:1] == sign})
+                if reached not in things:
+                    things.append(reached)
+        return things
+
+    def test_made_up_turners(self):
+        rng = random.Random(616)
+        for letters, turner in some_turners(617, 120, letters=("a", "ab", "ba"), most=3):
+            of = least(letters, some_machine(rng, letters, 3))
+            first, leading, end = places_to_write(letters, turner, of)
+
+            def step(mask, at):
+                found = 0
+                for place, reached in leading[at][1].items():
+                    if mask >> place & 1:
+                        found |= reached
+                return found
+
+            met = meet(letters, first, step)
+            slow = self.slow_things(letters, turner, of)
+            self.assertEqual(len(met.things), len(slow))
+            self.assertEqual([mask & end != 0 for mask in met.things], [("", None, None) in thing for thing in slow])
+            self.assertEqual([bin(mask).count("1") for mask in met.things], [len(thing) for thing in slow])
+
+
 class SameTest(unittest.TestCase):
     def test_made_up_machines(self):
         for letters, machine in some_machines(613, 120, most=6):
@@ -433,6 +479,30 @@ class ThenTest(unittest.TestCase):
         with self.assertRaises(BadSize) as caught:
             then("ab", first, second)
         self.assertEqual(caught.exception.size, len(told[0][0][1]))
+
+    def test_thirteen_moves_and_seven_end_words(self):
+        words = all_words("ab", 3)
+        same = ([[[("a", 0)], [("b", 0)]]], [[""]])
+        for many in (12, 13):
+            first = ([[[(word, 0) for word in words[:many]], []]], [words[:many - 6]])
+            self.assertEqual(then("ab", first, same), first)
+            self.assertEqual(then("ab", same, first), ([[[(word, 0) for word in words[:many]], []]], [words[:many - 6]]))
+        more = [("a", 0), ("b", 0), ("aa", 0), ("bb", 0), ("ab", 0), ("ba", 0), ("aaa", 0)]
+        # Two states, so that the same words go with different states: just 14 moves.
+        second = ([[more[:4] + [(word, 1) for word, _ in more[:3]]] * 2, [[], []]], [["", "a"], []])
+        first = ([[[("a", 0), ("a", 1)], []], [[], []]], [[], []])
+        self.assertEqual(len(behind("ab", first, second)[0][0][0]), 14)
+        with self.assertRaises(BadSize) as caught:
+            then("ab", first, second)
+        self.assertEqual(caught.exception.size, 14)
+        # Just 7 end words, as one of the ways writes what another one has written, and just 8.
+        first = ([[[], []]], [["a", "b"]])
+        second = ([[[("a", 0), ("b", 0)], [("bb", 0), ("aa", 0)]]], [["", "a"]])
+        self.assertEqual(then("ab", first, second)[1], [["a", "aa", "b", "ba", "bb", "bba", "aaa"]])
+        second = ([[[("a", 0), ("b", 0)], [("bb", 0), ("ab", 0)]]], [["", "a"]])
+        with self.assertRaises(BadSize) as caught:
+            then("ab", first, second)
+        self.assertEqual(caught.exception.size, 8)
 
     def test_the_same_move_in_several_ways_counts_once(self):
         first = ([[[("aaa", 0)]]], [["aaa"]])
