@@ -155,6 +155,50 @@ INTERFACE = {
         lead_paper(letters, first, turner, second)
         is_lead_paper(letters, first, turner, second, triples)
     """,
+    "learning": """
+        fits(letters, machine, yes, no)
+        least_fit(letters, yes, no, most)
+        clash_tree(letters, yes, no, most)
+        is_clash_tree(letters, yes, no, most, tree)
+        unlike_words(letters, yes, no)
+        are_unlike(letters, yes, no, words)
+    """,
+    "merging": """
+        sample_of(letters, machine)
+        merged_fit(letters, yes, no)
+    """,
+    "asking": """
+        relearned(letters, log)
+    """,
+    "chances": """
+        check_source(letters, source)
+        chance_of(letters, source, word)
+        chance_at(letters, source, machine, n)
+        taken_by(letters, source, machine, n)
+        search_machine(letters, machine)
+        met_by(letters, source, machine, n)
+        mean_places(letters, source, machine, n)
+        chances_from(letters, source, machine)
+        means_from(letters, source, machine)
+        ever_taken(letters, source, machine)
+        mean_first(letters, source, machine)
+        race(letters, source, first, second)
+    """,
+    "bounds": """
+        is_high(letters, source, machine, numbers)
+        is_low(letters, source, machine, numbers)
+        is_high_means(letters, source, machine, numbers)
+        is_low_means(letters, source, machine, numbers)
+    """,
+    "games": """
+        bring(letters, machine, *, who=0)
+        is_rank_paper(letters, machine, ranks, *, who=0)
+        keep_paper(letters, machine, *, who=0)
+        is_keep_paper(letters, machine, keys, *, who=0)
+        least_choice(letters, machine, table, *, side)
+        greatest_choice(letters, machine, table, *, side)
+        play(letters, machine, first, second, length)
+    """,
     "finding": """
         all_places(letters, machine, text)
         count_places(letters, machine, text)
@@ -176,6 +220,14 @@ CLASSES = {
         told(self)
         heard(self)
         finish(self)
+    """,
+    ("asking", "Learner"): """
+        __init__(self, letters)
+        question(self)
+        answer(self, value)
+        paper(self)
+        log(self)
+        undo(self)
     """,
 }
 PROPERTIES = {("finder", "Finder"): ["fed"]}

@@ -9,6 +9,7 @@ import unittest
 
 PACKAGE = os.path.join(os.path.dirname(os.path.dirname(os.path.abspath(__file__))), "hallofwords")
 
+LIBRARY = {"heapq": {"heappush", "heappop"}, "math": {"gcd", "lcm"}}
 ALLOWED_BUILTINS = set(
     "len range enumerate zip min max sum abs sorted reversed int str bool list tuple dict set isinstance ord repr"
     " any all divmod map iter next property Exception ValueError TypeError KeyError IndexError".split()
@@ -102,8 +103,9 @@ class LanguageTest(unittest.TestCase):
         defined = {name[:-3]: {node.name for node in tree.body if hasattr(node, "name")} | set(module_names(tree))
                    for name, tree in trees().items()}
         for where, node in self.nodes(ast.ImportFrom):
-            if node.module == "heapq":
-                self.assertLessEqual({alias.name for alias in node.names}, {"heappush", "heappop"}, where)
+            if node.module in LIBRARY:
+                self.assertLessEqual({alias.name for alias in node.names}, LIBRARY[node.module], where)
+                self.assertEqual({alias.asname for alias in node.names}, {None}, where)
                 continue
             self.assertRegex(node.module, r"^hallofwords\.[a-z_]+$", where)
             for alias in node.names:
@@ -112,7 +114,7 @@ class LanguageTest(unittest.TestCase):
 
     def test_no_rings_of_imports(self):
         leads = {name[:-3]: {node.module.split(".")[1] for node in ast.walk(tree)
-                             if isinstance(node, ast.ImportFrom) and node.module != "heapq"}
+                             if isinstance(node, ast.ImportFrom) and node.module not in LIBRARY}
                  for name, tree in trees().items()}
         while leads:
             free = [name for name, needed in leads.items() if not needed & set(leads)]
