@@ -9,8 +9,15 @@ from hallofwords.rules import rules_in
 
 def machine_of(letters, rule):
     """Return the least machine of a rule without names, or raise the TooMany or TooGreat that is due first."""
+    return machine_with(letters, rule, {})
+
+
+def machine_with(letters, rule, machines):
+    """Return the least machine of a rule, where a dict has the machines of the names, or raise the same errors."""
     kind = rule[0]
-    inner = [machine_of(letters, part) for part in rules_in(rule)]
+    if kind == "name":
+        return machines[rule[1]]
+    inner = [machine_with(letters, part, machines) for part in rules_in(rule)]
     if kind == "none":
         return word_machine(letters, [])
     if kind == "empty":

@@ -199,6 +199,61 @@ INTERFACE = {
         greatest_choice(letters, machine, table, *, side)
         play(letters, machine, first, second, length)
     """,
+    "again": """
+        counts(letters, machine, *, who=0)
+        is_count_paper(letters, machine, numbers, *, who=0)
+        again(letters, machine, *, who=0)
+        is_again_paper(letters, machine, ranks, *, who=0)
+        promise(letters, machine, many, *, who=0)
+        is_promise(letters, machine, many, table, *, who=0)
+    """,
+    "odds": """
+        best_chances(letters, source, machine, *, who=0)
+        best_choice(letters, source, machine, *, who=0)
+        choice_chances(letters, source, machine, choice, *, who=0)
+        is_high_odds(letters, source, machine, numbers, *, who=0)
+        is_low_odds(letters, source, machine, choice, numbers, *, who=0)
+    """,
+    "sheets": """
+        check_sheet(letters, sheet)
+        has_word(letters, sheet)
+        least_length(letters, sheet)
+        least_lengths(letters, sheet)
+        first_word_of(letters, sheet)
+        used_names(letters, sheet)
+        is_one_sided(letters, sheet)
+        machine_of_sheet(letters, sheet)
+        sheet_of(letters, machine)
+    """,
+    "trees": """
+        is_in(letters, sheet, word)
+        count_trees(letters, sheet, word)
+        is_tree(letters, sheet, word, tree)
+        trees(letters, sheet, word, *, most=100)
+        tree_at(letters, sheet, word, place)
+        place_of_tree(letters, sheet, word, tree)
+        endless_paper(letters, sheet, word)
+        is_endless_paper(letters, sheet, word, spots)
+    """,
+    "within": """
+        leading_pairs(letters, sheet, machine)
+        is_sheet_within(letters, sheet, machine)
+        sheet_paper(letters, sheet, machine)
+        is_sheet_paper(letters, sheet, machine, paper)
+        outside_word(letters, sheet, machine)
+        shared_word(letters, sheet, machine)
+    """,
+    "powers": """
+        turning_of(letters, machine, word)
+        members(letters, machine)
+        ring_of(letters, machine)
+        is_ring(letters, machine, word, states)
+        rest_paper(letters, machine)
+        is_rest_paper(letters, machine, rows)
+    """,
+    "hall": """
+        replay(letters, journal)
+    """,
     "finding": """
         all_places(letters, machine, text)
         count_places(letters, machine, text)
@@ -229,8 +284,26 @@ CLASSES = {
         log(self)
         undo(self)
     """,
+    ("hall", "Hall"): """
+        __init__(self, letters)
+        put(self, name, rule)
+        remove(self, name)
+        rename(self, name, other)
+        undo(self)
+        redo(self)
+        do_all(self, deeds)
+        what_if(self, deeds)
+        names(self)
+        rule(self, name)
+        machine(self, name)
+        written_out(self, name)
+        users(self, name)
+        journal(self)
+        __len__(self)
+        __contains__(self, name)
+    """,
 }
-PROPERTIES = {("finder", "Finder"): ["fed"]}
+PROPERTIES = {("finder", "Finder"): ["fed"], ("hall", "Hall"): ["can_undo", "can_redo"]}
 
 
 class InterfaceTest(unittest.TestCase):
