@@ -5,6 +5,8 @@ from hallofwords.folds import MOST_THINGS
 from hallofwords.machines import least, run_from
 from hallofwords.meeting import meet
 
+MOST_RING_SIGNS = 2000
+
 
 def turning_of(letters, machine, word):
     """Return the turning of the word."""
@@ -36,15 +38,26 @@ def members(letters, machine):
 
 
 def ring_in(states):
-    """Return the first ring of at least two states that the turning leads around, from its least state on, or None."""
+    """Return the ring of at least two states that the turning leads around with the least state, or None."""
+    passed = {}
+    firsts = []
     for first in range(len(states)):
-        ring = [first]
-        # A way of so many steps that has not come back does not come back.
-        while states[ring[-1]] != first and len(ring) <= len(states):
-            ring.append(states[ring[-1]])
-        if 2 <= len(ring) <= len(states):
-            return ring
-    return None
+        state = first
+        while state not in passed:
+            passed[state] = first
+            state = states[state]
+        # A way that comes to one of its own states goes around from there.
+        if passed[state] == first and states[state] != state:
+            firsts.append(min(way_around(states, state)))
+    return way_around(states, min(firsts)) if firsts else None
+
+
+def way_around(states, first):
+    """Return the states that the turning leads around, from this one of them on."""
+    ring = [first]
+    while states[ring[-1]] != first:
+        ring.append(states[ring[-1]])
+    return ring
 
 
 def ring_of(letters, machine):
@@ -60,7 +73,7 @@ def ring_of(letters, machine):
 def is_ring(letters, machine, word, states):
     """Tell whether the word and the list of states are a ring."""
     lesser = least(letters, machine)
-    if len(states) < 2 or len(states) > len(lesser[0]):
+    if len(word) > MOST_RING_SIGNS or not 2 <= len(states) <= len(lesser[0]):
         return False
     if any([states[k] in states[:k] for k in range(len(states))]):
         return False

@@ -39,8 +39,9 @@ def in_wholes(ratios):
 def solved(rows):
     """Return the only numbers that keep the equations, each a list of factors and what they come to.
 
-    In the rows the first equations alone, each time as many as numbers, have one answer, too. The
-    rows are kept whole: each step divides by the pivot of the step ahead, and nothing is left over.
+    For the first k equations and the first k numbers alone there has to be one answer, too, for each k,
+    so that no rows are exchanged. The rows are kept whole: each step divides by the pivot of the step
+    ahead, and nothing is left over.
     """
     rows = list(rows)
     divisor = 1

@@ -67,7 +67,7 @@ class SourceTest(unittest.TestCase):
 
     def test_sums(self):
         for source in ([(0, 1), (0, 1)], [(1, 1), (1, 1)], [(1, 2), (1, 3)], [(1, 2), (51, 100)], [(1, 2), (49, 100)],
-                       [(1, 1), (1, 100)]):
+                       [(1, 1), (1, 100)], [(3, 2), (-1, 2)], [(-1, 1), (2, 1)], [(1, 200), (199, 200)]):
             with self.assertRaises(BadNumber):
                 check_source("ab", source)
         with self.assertRaises(BadNumber):

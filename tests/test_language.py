@@ -176,6 +176,24 @@ class LanguageTest(unittest.TestCase):
             if isinstance(node.func, ast.Attribute) and node.func.attr != "__init__":
                 self.assertIn(node.func.attr, ALLOWED_METHODS | own, where)
 
+    def test_attributes_and_methods_have_names_of_their_own(self):
+        methods = {node.name for _, owner in self.nodes(ast.ClassDef) for node in owner.body
+                   if isinstance(node, ast.FunctionDef)}
+        for where, node in self.nodes(ast.Attribute):
+            if isinstance(node.ctx, ast.Store):
+                self.assertNotIn(node.attr, methods, where)
+                self.assertFalse(any(hasattr(kind, node.attr) for kind in (str, int, list, dict, set)), where)
+
+    def test_what_a_class_with_a_length_asks_for(self):
+        for where, node in self.nodes(ast.FunctionDef):
+            if node.name == "__len__":
+                self.assertRegex(ast.unparse(node.body[-1]), r"^return len\(", where)
+        for where, node in self.nodes(ast.Call):
+            if isinstance(node.func, ast.Attribute):
+                self.assertNotEqual(node.func.attr, "sort", where)
+            elif node.func.id == "sorted":
+                self.assertNotIsInstance(node.args[0], ast.GeneratorExp, where)
+
     def test_strings_and_numbers(self):
         for where, node in self.nodes(ast.Constant):
             self.assertNotIsInstance(node.value, (float, complex, bytes), where)

@@ -157,6 +157,8 @@ class RingTest(unittest.TestCase):
             ("a", [2, 3, 0, 1], True),
             ("aaaaa", [0, 1, 2, 3], True),
             ("a" * 1997, [0, 1, 2, 3], True),
+            ("a" * 1998, [0, 2], True),
+            ("a" * 2001, [0, 1, 2, 3], False),
             ("a" * 2000, [0], False),
             ("aa", [0, 2], True),
             ("aa", [3, 1], True),
@@ -185,6 +187,8 @@ class RingTest(unittest.TestCase):
             self.assertIs(check_new(self, is_ring, "a", cycle(4, 0), word, states), told, (word, states))
 
     def test_the_states_of_the_least_machine(self):
+        self.assertTrue(is_ring("a", cycle(3, 0), "a" * 2000, [0, 2, 1]))
+        self.assertFalse(is_ring("a", cycle(3, 0), "a" * 2003, [0, 2, 1]))
         # Four states are handed in, but there are two that differ.
         machine = cycle(4, 0, 2)
         self.assertEqual(ring_of("a", machine), ("a", [0, 1]))
